@@ -19,7 +19,7 @@ type turn struct {
 }
 
 // act is a sweep as it would be without a pause: each place goes on into the next one.
-// A turn begins in the midst of it, at its place, and ends where it comes to the next one.
+// As one step comes to one cell alone, a turn begins in the midst of it, at its place, and ends ahead of what the next one does.
 func (x *turn) act() {
 	switch x.Pc {
 	case api.PcSweep:
@@ -71,7 +71,7 @@ func (x *turn) act() {
 	}
 }
 
-// ends says whether a turn came to a place from the one ahead of it: it had its step there, and stays here.
+// ends says whether a turn came to a place from the one ahead of it: it had its step there, and waits here for the next.
 func (x *turn) ends(pc int) bool {
 	came := x.Pc != pc
 	x.Pc = pc
